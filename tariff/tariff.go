@@ -54,7 +54,7 @@ func errorOfHead(t api.Tariff) api.Errno {
 }
 
 func errorOfZoneName(t api.Tariff, i int) api.Errno {
-	return errorOfName(i, func(j int) string { return t.Zones[j] })
+	return words.ErrorOfName(i, func(j int) string { return t.Zones[j] })
 }
 
 func errorOfHoliday(t api.Tariff, i int) api.Errno {
@@ -62,7 +62,7 @@ func errorOfHoliday(t api.Tariff, i int) api.Errno {
 }
 
 func errorOfRule(t api.Tariff, i int) api.Errno {
-	if e := errorOfName(i, func(j int) string { return t.Rules[j].Name }); e != api.OK {
+	if e := words.ErrorOfName(i, func(j int) string { return t.Rules[j].Name }); e != api.OK {
 		return e
 	}
 	r := t.Rules[i]
@@ -93,7 +93,7 @@ func errorOfTerms(r api.TariffRule) api.Errno {
 }
 
 func errorOfExtra(t api.Tariff, i int) api.Errno {
-	if e := errorOfName(i, func(j int) string { return t.Extras[j].Name }); e != api.OK {
+	if e := words.ErrorOfName(i, func(j int) string { return t.Extras[j].Name }); e != api.OK {
 		return e
 	}
 	if !within(t.Extras[i].Amount, 0, api.MaxTariffAmount) {
@@ -114,19 +114,6 @@ func errorOfFixed(t api.Tariff, i int) api.Errno {
 	t.Fixed = t.Fixed[:i]
 	if _, found := fixedFare(t, f.From, f.To); found {
 		return api.ErrExists
-	}
-	return api.OK
-}
-
-// errorOfName returns the error of a name in a list of names that differ.
-func errorOfName(i int, name func(j int) string) api.Errno {
-	if !words.IsName(name(i)) {
-		return api.ErrName
-	}
-	for j := range i {
-		if name(j) == name(i) {
-			return api.ErrExists
-		}
 	}
 	return api.OK
 }

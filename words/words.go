@@ -21,6 +21,19 @@ func IsName(s string) bool {
 	return true
 }
 
+// ErrorOfName returns the error of the name i in a list of names that differ.
+func ErrorOfName(i int, name func(j int) string) api.Errno {
+	if !IsName(name(i)) {
+		return api.ErrName
+	}
+	for j := range i {
+		if name(j) == name(i) {
+			return api.ErrExists
+		}
+	}
+	return api.OK
+}
+
 func isLetter(b byte) bool { return 'a' <= b && b <= 'z' || 'A' <= b && b <= 'Z' }
 
 func isDigit(b byte) bool { return '0' <= b && b <= '9' }

@@ -4,6 +4,7 @@ import (
 	"fmt"
 	"testing"
 
+	"fiacre/api"
 	"fiacre/words"
 )
 
@@ -16,6 +17,15 @@ func TestIsName(t *testing.T) {
 	for _, s := range []string{"", "-a", "7a", "a b", "a_b", "a,b", "abcdefghijklm", "\xe4", "a\xe4", "a\n", "@", "[", "`", "{", "a/", "a:"} {
 		if words.IsName(s) {
 			t.Errorf("%q is no name", s)
+		}
+	}
+}
+
+func TestErrorOfName(t *testing.T) {
+	names := []string{"a", "b", "7", "a", "A"}
+	for i, wanted := range []api.Errno{api.OK, api.OK, api.ErrName, api.ErrExists, api.OK} {
+		if e := words.ErrorOfName(i, func(j int) string { return names[j] }); e != wanted {
+			t.Errorf("%d: error %d, want %d", i, e, wanted)
 		}
 	}
 }
