@@ -5,6 +5,7 @@ import (
 	"slices"
 
 	"fiacre/api"
+	"fiacre/check"
 )
 
 // A run is so many ticks that follow one another, each of which ends the same piece.
@@ -19,7 +20,7 @@ func TripOf(t api.Tariff, l api.MeterLog, trip int) (api.TariffTrip, api.Errno) 
 	if e != api.OK {
 		return api.TariffTrip{}, e
 	}
-	if !within(trip, 0, len(r.done)-1) {
+	if !check.Within(trip, 0, len(r.done)-1) {
 		return api.TariffTrip{}, api.ErrMissing
 	}
 	told := r.done[trip].trip

@@ -4,6 +4,7 @@ import (
 	"slices"
 
 	"fiacre/api"
+	"fiacre/check"
 )
 
 // Split returns the log in which an event of pulses, or ticks, is told as two.
@@ -11,14 +12,14 @@ func Split(l api.MeterLog, event, first int) (api.MeterLog, api.Errno) {
 	if e := errorAlone(l); e != api.OK {
 		return api.MeterLog{}, e
 	}
-	if !within(event, 0, len(l.Events)-1) {
+	if !check.Within(event, 0, len(l.Events)-1) {
 		return api.MeterLog{}, api.ErrMissing
 	}
 	whole := l.Events[event]
 	switch {
 	case !isMessage(whole):
 		return api.MeterLog{}, api.ErrKind
-	case !within(first, 1, whole.N-1):
+	case !check.Within(first, 1, whole.N-1):
 		return api.MeterLog{}, api.ErrRange
 	case len(l.Events) >= api.MaxMeterEvents:
 		return api.MeterLog{}, api.ErrFull

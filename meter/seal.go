@@ -4,6 +4,7 @@ import (
 	"slices"
 
 	"fiacre/api"
+	"fiacre/check"
 )
 
 // noSeal is the number of a seal that is not there.
@@ -14,7 +15,7 @@ func SumOf(l api.MeterLog, events int) (int, api.Errno) {
 	if e := errorAlone(l); e != api.OK {
 		return 0, e
 	}
-	if !within(events, 0, len(l.Events)) {
+	if !check.Within(events, 0, len(l.Events)) {
 		return 0, api.ErrRange
 	}
 	return sumOf(l.Events[:events]), api.OK

@@ -5,6 +5,7 @@ import (
 	"strings"
 
 	"fiacre/api"
+	"fiacre/check"
 	"fiacre/words"
 )
 
@@ -29,7 +30,7 @@ func FormatLog(l api.MeterLog) string {
 }
 
 func letterOf(kind int) string {
-	if !within(kind, 0, len(letters)-1) {
+	if !check.Within(kind, 0, len(letters)-1) {
 		return noLetter
 	}
 	return letters[kind : kind+1]

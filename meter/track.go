@@ -1,13 +1,16 @@
 package meter
 
-import "fiacre/api"
+import (
+	"fiacre/api"
+	"fiacre/check"
+)
 
 // MetresOf returns between which metres a number of pulses lies.
 func MetresOf(constant, pulses int) (api.Range, api.Errno) {
 	if e := errorOfConstant(constant); e != api.OK {
 		return api.Range{}, e
 	}
-	if !within(pulses, 0, api.MaxMeterCount) {
+	if !check.Within(pulses, 0, api.MaxMeterCount) {
 		return api.Range{}, api.ErrRange
 	}
 	thousandths := metresOfKilometre * pulses
@@ -19,7 +22,7 @@ func PulsesFor(constant, metres, permille int) (api.Range, api.Errno) {
 	if e := errorOfConstant(constant); e != api.OK {
 		return api.Range{}, e
 	}
-	if !within(metres, 1, api.MaxTariffMetres) || !isPermille(permille) {
+	if !check.Within(metres, 1, api.MaxTariffMetres) || !isPermille(permille) {
 		return api.Range{}, api.ErrRange
 	}
 	return pulsesFor(constant, metres, permille), api.OK
@@ -28,7 +31,7 @@ func PulsesFor(constant, metres, permille int) (api.Range, api.Errno) {
 // maxPermille is the greatest tolerance of a test.
 const maxPermille = 100
 
-func isPermille(permille int) bool { return within(permille, 0, maxPermille) }
+func isPermille(permille int) bool { return check.Within(permille, 0, maxPermille) }
 
 func pulsesFor(constant, metres, permille int) api.Range {
 	const millionths = 1000 * metresOfKilometre
@@ -70,11 +73,11 @@ func TestIs(constant int, x api.MeterTest) (int, api.Errno) {
 
 func errorOfTest(x api.MeterTest) api.Errno {
 	switch {
-	case !within(x.Metres.Lo, 1, api.MaxTariffMetres) || !within(x.Metres.Hi, 1, api.MaxTariffMetres):
+	case !check.Within(x.Metres.Lo, 1, api.MaxTariffMetres) || !check.Within(x.Metres.Hi, 1, api.MaxTariffMetres):
 		return api.ErrRange
 	case x.Metres.Lo > x.Metres.Hi:
 		return api.ErrOrder
-	case !within(x.Pulses, 0, api.MaxMeterCount) || !isPermille(x.Permille):
+	case !check.Within(x.Pulses, 0, api.MaxMeterCount) || !isPermille(x.Permille):
 		return api.ErrRange
 	}
 	return api.OK

@@ -2,6 +2,7 @@ package meter
 
 import (
 	"fiacre/api"
+	"fiacre/check"
 	"fiacre/tariff"
 )
 
@@ -11,7 +12,7 @@ func StateOf(t api.Tariff, l api.MeterLog, events int) (api.MeterState, api.Errn
 	if e != api.OK {
 		return api.MeterState{}, e
 	}
-	if !within(events, 0, len(l.Events)) {
+	if !check.Within(events, 0, len(l.Events)) {
 		return api.MeterState{}, api.ErrRange
 	}
 	return r.states[events], api.OK
@@ -52,7 +53,7 @@ func CountsOf(t api.Tariff, l api.MeterLog, trip int) ([]api.MeterCount, api.Err
 	if e != api.OK {
 		return nil, e
 	}
-	if !within(trip, 0, len(r.done)-1) {
+	if !check.Within(trip, 0, len(r.done)-1) {
 		return nil, api.ErrMissing
 	}
 	var list []api.MeterCount
@@ -89,11 +90,11 @@ func errorOfCounts(t api.Tariff, l []api.MeterCount) api.Errno {
 	}
 	for i, c := range l {
 		switch {
-		case !within(c.Rule, 0, len(t.Rules)-1):
+		case !check.Within(c.Rule, 0, len(t.Rules)-1):
 			return api.ErrMissing
 		case i > 0 && c.Rule <= l[i-1].Rule:
 			return api.ErrOrder
-		case !within(c.Pulses, 0, api.MaxMeterCount) || !within(c.Seconds, 0, api.MaxMeterSeconds):
+		case !check.Within(c.Pulses, 0, api.MaxMeterCount) || !check.Within(c.Seconds, 0, api.MaxMeterSeconds):
 			return api.ErrRange
 		}
 	}

@@ -4,11 +4,12 @@ import (
 	"sort"
 
 	"fiacre/api"
+	"fiacre/check"
 )
 
 // Earliest returns the earliest arrivals at all places.
 func Earliest(n api.StreetNet, from, at int) (api.StreetLabels, api.Errno) {
-	if e := firstError(errorOfNet(n), errorOfPlaces(n, from), errorOfTime(at)); e != api.OK {
+	if e := check.First(errorOfNet(n), errorOfPlaces(n, from), errorOfTime(at)); e != api.OK {
 		return api.StreetLabels{}, e
 	}
 	return earliest(n, from, at), api.OK
@@ -20,10 +21,10 @@ func earliest(n api.StreetNet, from, at int) api.StreetLabels {
 
 // CheckLabels accepts labels that prove for a trip that nobody arrives earlier, and returns their bound.
 func CheckLabels(n api.StreetNet, t api.StreetTrip, l api.StreetLabels) (api.Range, api.Errno) {
-	if e := firstError(errorOfNet(n), errorOfTrip(n, t), errorOfLabels(n, l.Soon, l.Late)); e != api.OK {
+	if e := check.First(errorOfNet(n), errorOfTrip(n, t), errorOfLabels(n, l.Soon, l.Late)); e != api.OK {
 		return api.Range{}, e
 	}
-	begun := within(l.Soon[t.From], 0, t.At) && within(l.Late[t.From], 0, t.At)
+	begun := check.Within(l.Soon[t.From], 0, t.At) && check.Within(l.Late[t.From], 0, t.At)
 	if !begun || !prove(n, l.Soon, soonest(n)) || !prove(n, l.Late, latest(n)) {
 		return api.Range{}, api.ErrProof
 	}
@@ -40,7 +41,7 @@ func boundOf(l api.StreetLabels, t api.StreetTrip) (api.Range, api.Errno) {
 
 // Estimate returns from when to when the earliest arrival of a trip is.
 func Estimate(n api.StreetNet, t api.StreetTrip) (api.Range, api.Errno) {
-	if e := firstError(errorOfNet(n), errorOfTrip(n, t)); e != api.OK {
+	if e := check.First(errorOfNet(n), errorOfTrip(n, t)); e != api.OK {
 		return api.Range{}, e
 	}
 	return boundOf(earliest(n, t.From, t.At), t)
@@ -48,7 +49,7 @@ func Estimate(n api.StreetNet, t api.StreetTrip) (api.Range, api.Errno) {
 
 // Fastest returns a way that arrives as early as possible if all goes as fast as it may, or as slow as it may.
 func Fastest(n api.StreetNet, t api.StreetTrip, late bool) ([]int, api.Errno) {
-	if e := firstError(errorOfNet(n), errorOfTrip(n, t)); e != api.OK {
+	if e := check.First(errorOfNet(n), errorOfTrip(n, t)); e != api.OK {
 		return nil, e
 	}
 	next := soonest(n)
@@ -64,7 +65,7 @@ func Fastest(n api.StreetNet, t api.StreetTrip, late bool) ([]int, api.Errno) {
 
 // LatestFor returns the latest time from which one surely arrives by the time of the trip.
 func LatestFor(n api.StreetNet, t api.StreetTrip) (int, api.Errno) {
-	if e := firstError(errorOfNet(n), errorOfTrip(n, t)); e != api.OK {
+	if e := check.First(errorOfNet(n), errorOfTrip(n, t)); e != api.OK {
 		return 0, e
 	}
 	tooLate := sort.Search(t.At+1, func(at int) bool {
@@ -79,7 +80,7 @@ func LatestFor(n api.StreetNet, t api.StreetTrip) (int, api.Errno) {
 
 // Detour returns from how many to how many seconds longer than the earliest arrivals a way is.
 func Detour(n api.StreetNet, t api.StreetTrip, way []int) (api.Range, api.Errno) {
-	if e := firstError(errorOfNet(n), errorOfTrip(n, t), errorOfWay(n, way)); e != api.OK {
+	if e := check.First(errorOfNet(n), errorOfTrip(n, t), errorOfWay(n, way)); e != api.OK {
 		return api.Range{}, e
 	}
 	if !joins(n, way, t.From, t.To) {

@@ -4,6 +4,7 @@ import (
 	"slices"
 
 	"fiacre/api"
+	"fiacre/check"
 )
 
 // A tree has the best ways from a place: for each place its least label, and the last road of a way that has it; none where there is none.
@@ -69,7 +70,7 @@ func errorOfLabels(n api.StreetNet, lists ...[]int) api.Errno {
 		}
 	}
 	for _, label := range slices.Concat(lists...) {
-		if !within(label, none, api.MaxNumber) {
+		if !check.Within(label, none, api.MaxNumber) {
 			return api.ErrRange
 		}
 	}
@@ -78,7 +79,7 @@ func errorOfLabels(n api.StreetNet, lists ...[]int) api.Errno {
 
 // Reaches returns all places that can be reached from a place.
 func Reaches(n api.StreetNet, from int) ([]int, api.Errno) {
-	if e := firstError(errorOfNet(n), errorOfPlaces(n, from)); e != api.OK {
+	if e := check.First(errorOfNet(n), errorOfPlaces(n, from)); e != api.OK {
 		return nil, e
 	}
 	var places []int
@@ -116,7 +117,7 @@ func Islands(n api.StreetNet) ([][]int, api.Errno) {
 
 // Needed returns all roads that are needed for two places.
 func Needed(n api.StreetNet, pair [2]int) ([]int, api.Errno) {
-	if e := firstError(errorOfNet(n), errorOfPlaces(n, pair[:]...)); e != api.OK {
+	if e := check.First(errorOfNet(n), errorOfPlaces(n, pair[:]...)); e != api.OK {
 		return nil, e
 	}
 	if !leads(n, pair) {

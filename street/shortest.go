@@ -1,10 +1,13 @@
 package street
 
-import "fiacre/api"
+import (
+	"fiacre/api"
+	"fiacre/check"
+)
 
 // HeightsFrom returns the least metres from a place to all places.
 func HeightsFrom(n api.StreetNet, from int) ([]int, api.Errno) {
-	if e := firstError(errorOfNet(n), errorOfPlaces(n, from)); e != api.OK {
+	if e := check.First(errorOfNet(n), errorOfPlaces(n, from)); e != api.OK {
 		return nil, e
 	}
 	return heightsFrom(n, from), api.OK
@@ -14,7 +17,7 @@ func heightsFrom(n api.StreetNet, from int) []int { return search(n, from, 0, fu
 
 // Shortest returns a shortest way, and its metres.
 func Shortest(n api.StreetNet, from, to int) ([]int, int, api.Errno) {
-	if e := firstError(errorOfNet(n), errorOfPlaces(n, from, to)); e != api.OK {
+	if e := check.First(errorOfNet(n), errorOfPlaces(n, from, to)); e != api.OK {
 		return nil, 0, e
 	}
 	found := search(n, from, 0, further(n))
@@ -26,7 +29,7 @@ func Shortest(n api.StreetNet, from, to int) ([]int, int, api.Errno) {
 
 // CheckHeights accepts heights that prove that no way between two places is shorter, and returns that of the second one.
 func CheckHeights(n api.StreetNet, pair [2]int, heights []int) (int, api.Errno) {
-	if e := firstError(errorOfNet(n), errorOfPlaces(n, pair[:]...), errorOfLabels(n, heights)); e != api.OK {
+	if e := check.First(errorOfNet(n), errorOfPlaces(n, pair[:]...), errorOfLabels(n, heights)); e != api.OK {
 		return 0, e
 	}
 	switch {
@@ -40,7 +43,7 @@ func CheckHeights(n api.StreetNet, pair [2]int, heights []int) (int, api.Errno) 
 
 // Examined returns what an examination comes to.
 func Examined(n api.StreetNet, x api.StreetExam) (api.StreetResult, api.Errno) {
-	if e := firstError(errorOfNet(n), errorOfExam(n, x)); e != api.OK {
+	if e := check.First(errorOfNet(n), errorOfExam(n, x)); e != api.OK {
 		return api.StreetResult{}, e
 	}
 	told, e := toldRoads(n, x.Places)
@@ -63,7 +66,7 @@ func errorOfExam(n api.StreetNet, x api.StreetExam) api.Errno {
 	if e := errorOfPlaces(n, x.Places...); e != api.OK {
 		return e
 	}
-	if !within(x.More, 0, 1000) {
+	if !check.Within(x.More, 0, 1000) {
 		return api.ErrRange
 	}
 	return api.OK

@@ -1,6 +1,9 @@
 package street
 
-import "fiacre/api"
+import (
+	"fiacre/api"
+	"fiacre/check"
+)
 
 // CheckWay returns the first error of a way, and the number of the road of the way that has it.
 func CheckWay(n api.StreetNet, way []int) (int, api.Errno) {
@@ -52,7 +55,7 @@ func along(next step, label int, roads ...int) int {
 
 // Takes returns how long a road takes at a time.
 func Takes(n api.StreetNet, road, at int) (api.Range, api.Errno) {
-	if e := firstError(errorOfNet(n), errorOfRoad(n, road), errorOfTime(at)); e != api.OK {
+	if e := check.First(errorOfNet(n), errorOfRoad(n, road), errorOfTime(at)); e != api.OK {
 		return api.Range{}, e
 	}
 	return takesAt(n.Roads[road].Points, at), api.OK
@@ -75,7 +78,7 @@ func roundedUp(a, b int) int { return (a + b - 1) / b }
 
 // ArrivalOf returns the arrival of a way from a time.
 func ArrivalOf(n api.StreetNet, way []int, at int) (api.Range, api.Errno) {
-	if e := firstError(errorOfWay(n, way), errorOfTime(at)); e != api.OK {
+	if e := check.First(errorOfWay(n, way), errorOfTime(at)); e != api.OK {
 		return api.Range{}, e
 	}
 	return arrivalOf(n, way, at), api.OK

@@ -5,6 +5,7 @@ import (
 	"slices"
 
 	"fiacre/api"
+	"fiacre/check"
 	"fiacre/words"
 )
 
@@ -45,7 +46,7 @@ func errorOfHead(t api.Tariff) api.Errno {
 	switch {
 	case !words.IsName(t.Name):
 		return api.ErrName
-	case !within(t.Unit, 1, api.MaxTariffUnit) || !within(t.Step, 0, api.MaxTariffAmount):
+	case !check.Within(t.Unit, 1, api.MaxTariffUnit) || !check.Within(t.Step, 0, api.MaxTariffAmount):
 		return api.ErrRange
 	case len(t.Zones) == 0:
 		return api.ErrShape
@@ -85,8 +86,8 @@ func errorOfRule(t api.Tariff, i int) api.Errno {
 
 // errorOfTerms returns the error of the hours and the prices of a rule.
 func errorOfTerms(r api.TariffRule) api.Errno {
-	if within(r.Begin, 0, api.Day-1) && within(r.End, 0, api.Day) && within(r.Start, 0, api.MaxTariffAmount) &&
-		within(r.Metre, 0, api.MaxTariffRate) && within(r.Second, 0, api.MaxTariffRate) {
+	if check.Within(r.Begin, 0, api.Day-1) && check.Within(r.End, 0, api.Day) && check.Within(r.Start, 0, api.MaxTariffAmount) &&
+		check.Within(r.Metre, 0, api.MaxTariffRate) && check.Within(r.Second, 0, api.MaxTariffRate) {
 		return api.OK
 	}
 	return api.ErrRange
@@ -96,7 +97,7 @@ func errorOfExtra(t api.Tariff, i int) api.Errno {
 	if e := words.ErrorOfName(i, func(j int) string { return t.Extras[j].Name }); e != api.OK {
 		return e
 	}
-	if !within(t.Extras[i].Amount, 0, api.MaxTariffAmount) {
+	if !check.Within(t.Extras[i].Amount, 0, api.MaxTariffAmount) {
 		return api.ErrRange
 	}
 	return api.OK
@@ -107,7 +108,7 @@ func errorOfFixed(t api.Tariff, i int) api.Errno {
 	switch {
 	case !isZone(t, f.From) || !isZone(t, f.To):
 		return api.ErrMissing
-	case !within(f.Amount, 0, api.MaxTariffAmount):
+	case !check.Within(f.Amount, 0, api.MaxTariffAmount):
 		return api.ErrRange
 	}
 	// The earlier ones alone are looked through, so that f is not found itself.
@@ -130,7 +131,7 @@ func errorOfSet(list []int, most int, outside api.Errno) api.Errno {
 
 func errorInSet(list []int, i, most int, outside api.Errno) api.Errno {
 	switch {
-	case !within(list[i], 0, most):
+	case !check.Within(list[i], 0, most):
 		return outside
 	case i > 0 && list[i] <= list[i-1]:
 		return api.ErrOrder
@@ -138,14 +139,12 @@ func errorInSet(list []int, i, most int, outside api.Errno) api.Errno {
 	return api.OK
 }
 
-func isZone(t api.Tariff, zone int) bool { return within(zone, 0, len(t.Zones)-1) }
+func isZone(t api.Tariff, zone int) bool { return check.Within(zone, 0, len(t.Zones)-1) }
 
-func isDate(date int) bool { return within(date, 0, api.MaxDate) }
-
-func within(n, least, most int) bool { return least <= n && n <= most }
+func isDate(date int) bool { return check.Within(date, 0, api.MaxDate) }
 
 func endsWithin(r api.Range, least, most int) bool {
-	return within(r.Lo, least, most) && within(r.Hi, least, most)
+	return check.Within(r.Lo, least, most) && check.Within(r.Hi, least, most)
 }
 
 // fixedFare returns the fixed fare from a zone to another one, if there is one.

@@ -4,6 +4,7 @@ import (
 	"slices"
 
 	"fiacre/api"
+	"fiacre/check"
 )
 
 // CheckTrip returns the first error of a trip, and the number of the supplement or the segment that has it.
@@ -25,7 +26,7 @@ func checkExtras(t api.Tariff, extras []int) (int, api.Errno) {
 		return 0, api.ErrShape
 	}
 	for i, n := range extras {
-		if !within(n, 0, api.MaxTariffExtra) {
+		if !check.Within(n, 0, api.MaxTariffExtra) {
 			return i, api.ErrRange
 		}
 	}
@@ -43,7 +44,7 @@ func checkSegments(t api.Tariff, segments []api.TariffSegment) (int, api.Errno) 
 		switch {
 		case !isZone(t, s.Zone):
 			return i, api.ErrMissing
-		case !within(s.Metres, 0, api.MaxTariffMetres) || !within(s.Seconds, 1, api.MaxTariffHours):
+		case !check.Within(s.Metres, 0, api.MaxTariffMetres) || !check.Within(s.Seconds, 1, api.MaxTariffHours):
 			return i, api.ErrRange
 		}
 	}
@@ -114,7 +115,7 @@ func StepsOf(t api.Tariff, x api.TariffTrip) ([]int, api.Errno) {
 
 // Cut returns the trip in which a segment is cut into a first part and the rest.
 func Cut(x api.TariffTrip, segment int, first api.TariffSegment) (api.TariffTrip, api.Errno) {
-	if !within(segment, 0, len(x.Segments)-1) {
+	if !check.Within(segment, 0, len(x.Segments)-1) {
 		return api.TariffTrip{}, api.ErrMissing
 	}
 	whole := x.Segments[segment]
@@ -122,7 +123,7 @@ func Cut(x api.TariffTrip, segment int, first api.TariffSegment) (api.TariffTrip
 	case first.Zone != whole.Zone:
 		return api.TariffTrip{}, api.ErrClash
 	// Nothing is taken from Seconds here: it may be the least int there is.
-	case !within(first.Metres, 0, whole.Metres) || first.Seconds < 1 || first.Seconds >= whole.Seconds:
+	case !check.Within(first.Metres, 0, whole.Metres) || first.Seconds < 1 || first.Seconds >= whole.Seconds:
 		return api.TariffTrip{}, api.ErrRange
 	case len(x.Segments) >= api.MaxTariffSegments:
 		return api.TariffTrip{}, api.ErrFull

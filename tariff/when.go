@@ -5,6 +5,7 @@ import (
 	"slices"
 
 	"fiacre/api"
+	"fiacre/check"
 )
 
 // KindOf returns the kind of a date: its day of the week, or TariffHoliday.
@@ -30,7 +31,7 @@ func Later(m api.Moment, seconds int) (api.Moment, api.Errno) {
 	if e := errorOfMoment(m); e != api.OK {
 		return api.Moment{}, e
 	}
-	if !within(seconds, 0, api.MaxTariffSeconds) {
+	if !check.Within(seconds, 0, api.MaxTariffSeconds) {
 		return api.Moment{}, api.ErrRange
 	}
 	n := later(m, seconds)
@@ -46,7 +47,7 @@ func later(m api.Moment, seconds int) api.Moment {
 }
 
 func errorOfMoment(m api.Moment) api.Errno {
-	if !isDate(m.Date) || !within(m.Time, 0, api.Day-1) {
+	if !isDate(m.Date) || !check.Within(m.Time, 0, api.Day-1) {
 		return api.ErrRange
 	}
 	return api.OK
@@ -90,7 +91,7 @@ func rulesOn(t api.Tariff, date int) []int {
 	kind := kindOf(t, date)
 	var rules []int
 	for i, r := range t.Rules {
-		if within(date, r.From, r.To) && slices.Contains(r.Days, kind) {
+		if check.Within(date, r.From, r.To) && slices.Contains(r.Days, kind) {
 			rules = append(rules, i)
 		}
 	}
