@@ -15,3 +15,16 @@ func First(errors ...api.Errno) api.Errno {
 
 // Within tells whether a number is from least to most.
 func Within(n, least, most int) bool { return least <= n && n <= most }
+
+// List returns the first error of a list of so many things, of which there are not more than most, and the number of the thing that has it.
+func List(many, most int, errorOf func(i int) api.Errno) (int, api.Errno) {
+	if many > most {
+		return 0, api.ErrLarge
+	}
+	for i := range many {
+		if e := errorOf(i); e != api.OK {
+			return i, e
+		}
+	}
+	return 0, api.OK
+}

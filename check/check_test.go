@@ -33,3 +33,22 @@ func TestWithin(t *testing.T) {
 		t.Error("0 is in an empty range")
 	}
 }
+
+func TestList(t *testing.T) {
+	errors := []api.Errno{api.OK, api.OK, api.ErrName, api.ErrRange}
+	for _, x := range []struct {
+		many, most, number int
+		wanted             api.Errno
+	}{
+		{0, 0, 0, api.OK},
+		{2, 2, 0, api.OK},
+		{2, 1, 0, api.ErrLarge},
+		{3, 4, 2, api.ErrName},
+		{4, 4, 2, api.ErrName},
+		{4, 3, 0, api.ErrLarge},
+	} {
+		if i, e := check.List(x.many, x.most, func(i int) api.Errno { return errors[i] }); i != x.number || e != x.wanted {
+			t.Errorf("%d of at most %d: the error %d at %d, want %d at %d", x.many, x.most, e, i, x.wanted, x.number)
+		}
+	}
+}
