@@ -148,10 +148,10 @@ func behind[T any](list []T) string { return fmt.Sprint(list[:cap(list)]) }
 
 // spoil changes all that a list has, and what is in the room behind it.
 func spoil[T any](list []T, odd T) {
-	list = append(list, odd)
 	for i := range list {
 		list[i] = odd
 	}
+	_ = append(list, odd)
 }
 
 // spoilBook changes all that a book has, one list after the other, and wants the other lists to stay as they are.

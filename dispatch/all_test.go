@@ -147,27 +147,21 @@ func behind(r api.DispatchRound) string {
 
 // spoil changes all that a round has, and what is in the room behind it.
 func spoil(r api.DispatchRound) {
-	for i, row := range r.Wait {
-		row = append(row, 77)
-		row[0] = 77
-		r.Wait[i] = row
+	for _, row := range r.Wait {
+		spoilList(row, 77)
 	}
-	r.Cars = append(r.Cars, api.DispatchCar{Name: "spoilt"})
-	r.Cars[0].Name = "spoilt"
-	r.Orders = append(r.Orders, api.DispatchOrder{Name: "spoilt"})
-	r.Orders[0].Name = "spoilt"
-	r.Wait = append(r.Wait, nil)
-	r.Wait[0] = nil
-	r.Forbidden = append(r.Forbidden, [2]int{7, 7})
-	r.Forbidden[0] = [2]int{7, 7}
+	spoilList(r.Cars, api.DispatchCar{Name: "spoilt"})
+	spoilList(r.Orders, api.DispatchOrder{Name: "spoilt"})
+	spoilList(r.Wait, nil)
+	spoilList(r.Forbidden, [2]int{7, 7})
 }
 
 // spoilList changes all that a list has, and what is in the room behind it.
-func spoilList(list []int) {
-	list = append(list, 77)
+func spoilList[T any](list []T, odd T) {
 	for i := range list {
-		list[i] = 77
+		list[i] = odd
 	}
+	_ = append(list, odd)
 }
 
 // TestMemory is of R3: arguments stay as they are, and results share no memory with them.
@@ -190,16 +184,16 @@ func TestMemory(t *testing.T) {
 	spoil(first(dispatch.Rolled(x, plan)))
 	spoil(first(dispatch.Rolled(x, slices.Repeat([]int{-1}, 8))))
 	spoil(first(dispatch.Fair(x, trips, 9)))
-	spoilList(first(dispatch.Fits(x, 1)))
-	spoilList(first(dispatch.Served(x, plan)))
-	spoilList(first(dispatch.CheckHall(alone, set)))
-	spoilList(first(dispatch.Hall(alone)))
-	spoilList(first(dispatch.ParsePlan(alone, "p=a;q=-")))
-	spoilList(first(leastLongest(x)).Plan)
+	spoilList(first(dispatch.Fits(x, 1)), 77)
+	spoilList(first(dispatch.Served(x, plan)), 77)
+	spoilList(first(dispatch.CheckHall(alone, set)), 77)
+	spoilList(first(dispatch.Hall(alone)), 77)
+	spoilList(first(dispatch.ParsePlan(alone, "p=a;q=-")), 77)
+	spoilList(first(leastLongest(x)).Plan, 77)
 	b := first(dispatch.Best(x))
-	spoilList(b.Plan)
-	spoilList(b.Prices.Orders)
-	spoilList(b.Prices.Cars)
+	spoilList(b.Plan, 77)
+	spoilList(b.Prices.Orders, 77)
+	spoilList(b.Prices.Cars, 77)
 	dispatch.CheckRound(x)
 	dispatch.IsFit(x, 0, 1)
 	dispatch.CheckPlan(x, plan)

@@ -125,10 +125,10 @@ func behind[T any](list []T) string { return fmt.Sprint(list[:cap(list)]) }
 
 // spoil changes all that a list has, and what is in the room behind it.
 func spoil[T any](list []T, odd T) {
-	list = append(list, odd)
 	for i := range list {
 		list[i] = odd
 	}
+	_ = append(list, odd)
 }
 
 // TestMemory is of R3: arguments stay as they are, and results share no memory with them, or with each other.

@@ -161,13 +161,18 @@ func behind(s api.RankState) string {
 
 // spoil changes all that a state has, and what is in the room behind it.
 func spoil(s api.RankState) {
-	for i, queue := range s.Queues {
-		s.Queues[i] = append(queue, "spoilt")
-		s.Queues[i][0] = "spoilt"
+	for _, queue := range s.Queues {
+		spoilList(queue, "spoilt")
 	}
-	_ = append(s.Queues, []string{"spoilt"})
-	s.Taken = append(s.Taken, api.RankTaken{Car: "spoilt"})
-	s.Taken[0].Car = "spoilt"
+	spoilList(s.Queues, []string{"spoilt"})
+	spoilList(s.Taken, api.RankTaken{Car: "spoilt"})
+}
+
+func spoilList[T any](list []T, odd T) {
+	for i := range list {
+		list[i] = odd
+	}
+	_ = append(list, odd)
 }
 
 // TestMemory is of R3: arguments stay as they are, and results share no memory with them.

@@ -166,10 +166,10 @@ func behind(m api.ShareMap, plans []api.SharePlan) string {
 
 // spoil changes all that a list has, and what is in the room behind it.
 func spoil[T any](list []T, odd T) {
-	list = append(list, odd)
 	for i := range list {
 		list[i] = odd
 	}
+	_ = append(list, odd)
 }
 
 // spoilPlan changes all that a plan has.

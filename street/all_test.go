@@ -195,14 +195,18 @@ func first[T any](x T, _ api.Errno) T { return x }
 
 // spoil changes all that a net has, and what is in the room behind it.
 func spoil(n api.StreetNet) {
-	for i := range n.Roads {
-		n.Roads[i].Points = append(n.Roads[i].Points, point(99, 99, 99))
-		n.Roads[i].Points[0].At = 99
-		n.Roads[i].Name = "spoilt"
+	for _, r := range n.Roads {
+		spoilList(r.Points, point(99, 99, 99))
 	}
-	n.Roads = append(n.Roads, road("spoilt", 9, 9, 9))
-	n.Places = append(n.Places, "spoilt")
-	n.Places[0] = "spoilt"
+	spoilList(n.Roads, road("spoilt", 9, 9, 9))
+	spoilList(n.Places, "spoilt")
+}
+
+func spoilList[T any](list []T, odd T) {
+	for i := range list {
+		list[i] = odd
+	}
+	_ = append(list, odd)
 }
 
 // TestMemoryOfResults is of R3: the lists of one result share no memory with each other.
